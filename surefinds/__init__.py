@@ -1,0 +1,1 @@
+"""Surefinds: what is so of several tests at once, in whatever way they hang together."""

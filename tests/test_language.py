@@ -1,0 +1,90 @@
+"""What ../shared/LANGUAGE.md asks of the files of the package, as far as a short look at the code can tell."""
+
+import ast
+import re
+import unittest
+from pathlib import Path
+
+FOLDER = Path(__file__).resolve().parent.parent / "surefinds"
+FILES = sorted(FOLDER.rglob("*.py"))
+LIBRARY = {"math": {"gcd", "lcm"}}
+BUILTINS = {"len", "range", "enumerate", "zip", "min", "max", "sum", "abs", "sorted", "int", "list", "tuple", "all",
+            "any", "type", "super", "ValueError"}
+METHODS = {"append", "get", "items", "bit_length"}
+BARRED = (ast.Div, ast.Global, ast.Nonlocal, ast.Yield, ast.YieldFrom, ast.Await, ast.With, ast.Try, ast.JoinedStr,
+          ast.GeneratorExp, ast.NamedExpr, ast.Starred, ast.AnnAssign, ast.Import, ast.Delete, ast.Match, ast.Assert)
+
+
+def own_names():
+    names = set()
+    for path in FILES:
+        for node in ast.walk(ast.parse(path.read_text())):
+            if isinstance(node, (ast.FunctionDef, ast.ClassDef)):
+                names.add(node.name)
+            elif isinstance(node, ast.arg):
+                names.add(node.arg)
+    return names
+
+
+class Language(unittest.TestCase):
+
+    def trees(self):
+        for path in FILES:
+            yield path, ast.parse(path.read_text())
+
+    def test_only_plain_python_files(self):
+        for path in FOLDER.rglob("*"):
+            if "__pycache__" not in path.parts and path.is_file():
+                self.assertRegex(path.name, r"^(__init__|[a-z][a-z_]*)\.py$")
+
+    def test_sizes_and_characters(self):
+        for path in FILES:
+            text = path.read_text()
+            self.assertLess(len(text.splitlines()), 400, path.name)
+            self.assertIsNone(re.search(r"[^\n -~]", text), path.name)
+            self.assertLessEqual(max(map(len, text.splitlines())), 120, path.name)
+
+    def test_functions_of_at_most_40_lines_without_decorators(self):
+        for path, tree in self.trees():
+            for node in ast.walk(tree):
+                if isinstance(node, ast.FunctionDef):
+                    self.assertLessEqual(node.end_lineno - node.lineno + 1, 40, f"{path.name} {node.name}")
+                    self.assertEqual(node.decorator_list, [])
+
+    def test_imports(self):
+        for path, tree in self.trees():
+            for node in ast.walk(tree):
+                if isinstance(node, ast.ImportFrom):
+                    names = {alias.name for alias in node.names}
+                    if node.module in LIBRARY:
+                        self.assertLessEqual(names, LIBRARY[node.module], path.name)
+                    else:
+                        self.assertTrue(node.module.startswith("surefinds."), path.name)
+                        other = FOLDER / (node.module.split(".")[1] + ".py")
+                        defined = {each.name for each in ast.parse(other.read_text()).body
+                                   if isinstance(each, (ast.FunctionDef, ast.ClassDef))}
+                        constants = {name for name in names if name.isupper()}
+                        self.assertLessEqual(names - constants, defined, path.name)
+
+    def test_nothing_barred_and_no_floats(self):
+        for path, tree in self.trees():
+            for node in ast.walk(tree):
+                self.assertNotIsInstance(node, BARRED, f"{path.name} {getattr(node, 'lineno', 0)}")
+                if isinstance(node, ast.Constant):
+                    self.assertNotIsInstance(node.value, (float, complex), path.name)
+                    self.assertNotIn("%", str(node.value), path.name)
+
+    def test_only_what_is_let_is_called(self):
+        own = own_names()
+        for path, tree in self.trees():
+            for node in ast.walk(tree):
+                if isinstance(node, ast.Call) and isinstance(node.func, ast.Name):
+                    self.assertIn(node.func.id, own | BUILTINS | LIBRARY["math"], path.name)
+                elif isinstance(node, ast.Call) and isinstance(node.func, ast.Attribute):
+                    self.assertIn(node.func.attr, own | METHODS | {"__init__"}, path.name)
+
+    def test_a_kind_is_asked_only_by_is(self):
+        for path in FILES:
+            for line in path.read_text().splitlines():
+                for found in re.findall(r"\btype\(\w+\)(.{0,20})", line):
+                    self.assertRegex(found, r"^ is (not )?(int|tuple)\b", f"{path.name}: {line}")
