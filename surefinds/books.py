@@ -5,7 +5,7 @@ from surefinds.errors import InvalidBook, InvalidSet
 from surefinds.exact import is_at_most
 from surefinds.frames import check_frame
 from surefinds.kinds import first_wrong, is_saying, is_set
-from surefinds.packing import Packing, worths_of
+from surefinds.packing import chance_of
 
 
 def is_book(count, value):
@@ -59,7 +59,12 @@ def corners_against(book, lot):
 
 def is_wrong(group, number, lot):
     """Whether fewer of the group than the number are false if just the lot is true."""
-    return number > len([at for at in group if at not in lot])
+    return number > false_of(group, lot)
+
+
+def false_of(group, lot):
+    """How many of the group are false if just the lot is true."""
+    return len([at for at in group if at not in lot])
 
 
 def cut(corner, lot):
@@ -85,7 +90,7 @@ def riskiest_of(frame, book):
     count, lots = frame
     found = None
     for lot in lots:
-        chance = Packing(count, worths_of(corners_against(book, lot))).greatest()
+        chance = chance_of(count, corners_against(book, lot))
         if found is None or not is_at_most(chance, found[1]):
             found = (lot, chance)
     return found

@@ -2,8 +2,8 @@
 
 from surefinds.checks import check_corners, check_count, check_worths
 from surefinds.errors import TooMany
-from surefinds.exact import common_bottom, lowest, tops_over
-from surefinds.packing import ONE, Packing, ranked, unlike_limits, worths_of
+from surefinds.exact import ONE, common_bottom, lowest, tops_over
+from surefinds.packing import Packing, chance_of, ranked, unlike_limits, worths_of
 
 MOST_CELLS = 20000
 
@@ -12,7 +12,7 @@ def greatest_chance(count, corners):
     """The greatest chance, for all joint ways, that numbers are within some one of the corners."""
     check_count(count)
     check_corners(count, corners)
-    return Packing(count, worths_of(corners)).greatest()
+    return chance_of(count, corners)
 
 
 def masses(count, corners):

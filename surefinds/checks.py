@@ -1,7 +1,10 @@
 """The errors for arguments that several modules take."""
 
-from surefinds.errors import InvalidCorners, InvalidCount, InvalidNumbers, InvalidWorths
-from surefinds.kinds import first_wrong, is_corner, is_count, is_number, is_row, is_worth
+from surefinds.errors import (InvalidCorners, InvalidCount, InvalidDegree, InvalidNumber, InvalidNumbers, InvalidSet,
+                              InvalidWeb, InvalidWeights, InvalidWorths)
+from surefinds.exact import ONE, is_at_most, sum_of
+from surefinds.kinds import (first_wrong, is_corner, is_count, is_degree, is_number, is_row, is_set, is_web_row,
+                             is_weight, is_whole, is_worth)
 
 MOST_CORNERS = 60
 
@@ -33,3 +36,40 @@ def check_numbers(count, numbers):
     at = first_wrong(numbers, count, is_number)
     if at < count:
         raise InvalidNumbers(at)
+
+
+def check_set(count, group):
+    if not is_set(count, group):
+        raise InvalidSet(group)
+
+
+def check_number_of(group, number):
+    if not is_whole(number) or not 1 <= number <= len(group):
+        raise InvalidNumber(number)
+
+
+def check_degree(degree):
+    if not is_degree(degree):
+        raise InvalidDegree(degree)
+
+
+def check_weights(count, weights):
+    if not is_row(weights, count):
+        raise InvalidWeights(None)
+    at = first_wrong(weights, count, is_weight)
+    if at < count:
+        raise InvalidWeights(at)
+
+
+def check_shared_weights(count, weights):
+    check_weights(count, weights)
+    if not is_at_most(sum_of(weights), ONE):
+        raise InvalidWeights(None)
+
+
+def check_web(count, web):
+    if not is_row(web, count):
+        raise InvalidWeb(None)
+    for at, row in enumerate(web):
+        if not is_web_row(count, at, row):
+            raise InvalidWeb(at)

@@ -2,6 +2,9 @@
 
 from math import gcd, lcm
 
+NIL = (0, 1)
+ONE = (1, 1)
+
 
 def lowest(top, bottom):
     """The fraction top / bottom, bottom above 0."""
@@ -11,6 +14,27 @@ def lowest(top, bottom):
 
 def is_at_most(one, other):
     return one[0] * other[1] <= other[0] * one[1]
+
+
+def lesser(one, other):
+    return one if is_at_most(one, other) else other
+
+
+def greater(one, other):
+    return other if is_at_most(one, other) else one
+
+
+def plus(one, other):
+    return lowest(one[0] * other[1] + other[0] * one[1], one[1] * other[1])
+
+
+def times(one, other):
+    return lowest(one[0] * other[0], one[1] * other[1])
+
+
+def over(one, other):
+    """The fraction one / other, other above 0."""
+    return lowest(one[0] * other[1], one[1] * other[0])
 
 
 def common_bottom(fractions):
@@ -23,6 +47,11 @@ def common_bottom(fractions):
 def tops_over(fractions, bottom):
     """The fractions times bottom, which all of them divide."""
     return [top * (bottom // own) for top, own in fractions]
+
+
+def sum_of(fractions):
+    bottom = common_bottom(fractions)
+    return lowest(sum(tops_over(fractions, bottom)), bottom)
 
 
 def mixed(shares, fractions):

@@ -43,6 +43,11 @@ def check_ties(count, ties):
         raise InvalidTies(at)
 
 
+def is_part(lot, other):
+    """Whether all of the lot lies in the other one."""
+    return all([at in other for at in lot])
+
+
 def all_sets(count):
     """All sets of so many suppositions, ascending."""
     picks = range(1, 1 << count)
@@ -51,4 +56,4 @@ def all_sets(count):
 
 def keeps(lot, tie):
     group, index = tie
-    return index in lot or not all([at in lot for at in group])
+    return index in lot or not is_part(group, lot)

@@ -2,6 +2,8 @@
 
 from math import gcd
 
+from surefinds.exact import NIL, ONE, is_at_most, sum_of
+
 MOST_COUNT = 5
 
 
@@ -37,8 +39,22 @@ def is_corner(count, value):
     return is_row(value, count) and all([is_limit(limit) for limit in value])
 
 
+def is_weight(value):
+    return is_fraction(value) and value[0] >= 0
+
+
+def is_degree(value):
+    return is_number(value) and value[0] > 0
+
+
 def is_worth(count, value):
-    return is_row(value, 2) and is_corner(count, value[0]) and is_fraction(value[1]) and value[1][0] >= 0
+    return is_row(value, 2) and is_corner(count, value[0]) and is_weight(value[1])
+
+
+def is_web_row(count, index, value):
+    if not is_row(value, count) or not all([is_weight(each) for each in value]):
+        return False
+    return value[index] == NIL and is_at_most(sum_of(value), ONE)
 
 
 def is_index(count, value):
@@ -69,6 +85,15 @@ def is_saying(count, value):
     if not is_set(count, group) or not is_whole(number):
         return False
     return 1 <= number <= len(group) and is_corner(count, corner)
+
+
+def is_bar(count, value):
+    if not is_row(value, 2):
+        return False
+    lot, corner = value
+    if not is_set(count, lot) or not is_corner(count, corner):
+        return False
+    return all([limit is None or at in lot for at, limit in enumerate(corner)])
 
 
 def first_wrong(row, most, is_right):

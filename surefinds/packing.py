@@ -1,9 +1,8 @@
 """Masses that fit worths, and prices that bar them, both with the greatest sum that masses can have."""
 
-from surefinds.exact import common_bottom, in_order, lowest, mixed, tops_over
+from surefinds.exact import NIL, ONE, common_bottom, in_order, lowest, mixed, tops_over
 from surefinds.simplex import Table
 
-ONE = (1, 1)
 TOTAL = -1
 
 
@@ -30,8 +29,7 @@ def is_under(one, other):
 def needed(rows):
     """The indexes of the rows that are under no other one, of like rows that of the first."""
     return [at for at, row in enumerate(rows)
-            if not any([is_under(row, other) and (row != other or ahead < at)
-                        for ahead, other in enumerate(rows) if ahead != at])]
+            if not any([is_under(row, other) and (row != other or ahead < at) for ahead, other in enumerate(rows)])]
 
 
 class Packing:
@@ -69,7 +67,7 @@ class Packing:
 
     def masses(self):
         """Fitting masses with the greatest sum, one for each worth, in their order."""
-        found = [(0, 1)] * self.many
+        found = [NIL] * self.many
         for at, mass in zip(self.kept, self.table.amounts()):
             found[at] = mass
         return tuple(found)
@@ -84,3 +82,8 @@ class Packing:
 
 def worths_of(corners):
     return tuple([(corner, ONE) for corner in corners])
+
+
+def chance_of(count, corners):
+    """The greatest chance of the corners."""
+    return Packing(count, worths_of(corners)).greatest()

@@ -8,7 +8,7 @@ The table is kept without the bounds, whose numbers may be long: its entries are
 What follows of the bounds is worked out of the table where it is needed.
 """
 
-from surefinds.exact import lowest, mixed
+from surefinds.exact import NIL, lowest, mixed
 
 ROUGH_BITS = 64
 
@@ -124,7 +124,7 @@ class Table:
 
     def amounts(self):
         """The amounts of the columns, in their order."""
-        found = [(0, 1)] * self.many
+        found = [NIL] * self.many
         for at, name in enumerate(self.basic):
             if name < self.many:
                 top, bottom = self.mixed_bounds(self.shares_of(at, 1))

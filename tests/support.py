@@ -143,6 +143,74 @@ def drawn_worths(draw, corners, most):
     return tuple((corner, drawn_fraction(draw, most)) for corner in corners)
 
 
+def drawn_saying(draw, count, most):
+    group = draw.choice(subsets(range(count)))
+    return (group, draw.randint(1, len(group)), drawn_corner(draw, count, most, 0.3))
+
+
+def drawn_book(draw, count, many):
+    return tuple(drawn_saying(draw, count, draw.choice((4, 30))) for _ in range(many))
+
+
+def drawn_frame(draw, count):
+    """The full frame, or one with some of the sets."""
+    lots = subsets(range(count))
+    many = len(lots) if draw.random() < 0.4 else draw.randint(1, len(lots))
+    return (count, tuple(sorted(draw.sample(lots, many))))
+
+
+def drawn_bars(draw, count, many, most, open_share=0.3):
+    """Bars of any sets, like pairs among them, with limits of few bottoms."""
+    found = []
+    for _ in range(many):
+        lot = draw.choice(subsets(range(count)))
+        corner = drawn_corner(draw, count, most, open_share)
+        found.append((lot, tuple(limit if at in lot else None for at, limit in enumerate(corner))))
+    if many > 3 and draw.random() < 0.4:
+        found[draw.randrange(many)] = found[0]
+    return tuple(found)
+
+
+def drawn_numbers(draw, count, corners, most):
+    """Numbers of which some are just at limits of the corners."""
+    found = []
+    for index in range(count):
+        limits = [corner[index] for corner in corners if corner[index] is not None]
+        found.append(draw.choice(limits) if limits and draw.random() < 0.5 else drawn_number(draw, most))
+    return tuple(found)
+
+
+def is_inside(numbers, corner):
+    return all(limit is None or whole_of(number) <= whole_of(limit) for number, limit in zip(numbers, corner))
+
+
+def plain_possible(frame, bars, numbers):
+    """The possible lots, as the document's words have it."""
+    return [()] + [lot for lot in frame[1]
+                   if not any(own == lot and is_inside(numbers, corner) for own, corner in bars)]
+
+
+def plain_sure(frame, bars, numbers, group):
+    return min(len(set(group) - set(lot)) for lot in plain_possible(frame, bars, numbers))
+
+
+def plain_called(frame, bars, numbers):
+    return tuple(index for index in range(frame[0]) if plain_sure(frame, bars, numbers, (index,)) == 1)
+
+
+def plain_ends(count, bars):
+    """For each supposition its unlike limits and 1."""
+    found = []
+    for index in range(count):
+        limits = {corner[index] for _, corner in bars if corner[index] is not None}
+        found.append(sorted(limits | {ONE}, key=whole_of))
+    return found
+
+
+def plain_cells(count, bars):
+    return list(product(*plain_ends(count, bars)))
+
+
 class Odd:
     """A value of no kind that the program knows; to be compared with it is a fault."""
 

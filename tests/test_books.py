@@ -8,24 +8,10 @@ from surefinds.books import is_book, risk, riskiest, says, wrong_corners
 from surefinds.chances import greatest_chance
 from surefinds.errors import InvalidCount
 from surefinds.frames import full_frame, implied_frame
-from tests.support import drawn_corner, drawn_number, pair, subsets, whole_of
+from tests.support import drawn_book, drawn_frame, drawn_number, pair, subsets, whole_of
 from tests.test_refusals import NOT_SAYINGS, NOT_TUPLES
 
 NIL, ONE, HALF, THIRD, QUARTER, TENTH = (0, 1), (1, 1), (1, 2), (1, 3), (1, 4), (1, 10)
-
-
-def drawn_saying(draw, count, most):
-    group = draw.choice(subsets(range(count)))
-    return (group, draw.randint(1, len(group)), drawn_corner(draw, count, most, 0.3))
-
-
-def drawn_book(draw, count, many):
-    return tuple(drawn_saying(draw, count, draw.choice((4, 30))) for _ in range(many))
-
-
-def drawn_frame(draw, count):
-    lots = subsets(range(count))
-    return (count, tuple(sorted(draw.sample(lots, draw.randint(1, len(lots))))))
 
 
 def plain_wrong_corners(book, lot):

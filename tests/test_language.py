@@ -1,6 +1,7 @@
 """What ../shared/LANGUAGE.md asks of the files of the package, as far as a short look at the code can tell."""
 
 import ast
+import builtins
 import re
 import unittest
 from pathlib import Path
@@ -13,6 +14,16 @@ BUILTINS = {"len", "range", "enumerate", "zip", "min", "max", "sum", "abs", "sor
 METHODS = {"append", "get", "items", "bit_length"}
 BARRED = (ast.Div, ast.Global, ast.Nonlocal, ast.Yield, ast.YieldFrom, ast.Await, ast.With, ast.Try, ast.JoinedStr,
           ast.GeneratorExp, ast.NamedExpr, ast.Starred, ast.AnnAssign, ast.Import, ast.Delete, ast.Match, ast.Assert)
+
+
+def defined_names(tree):
+    names = set()
+    for node in tree.body:
+        if isinstance(node, (ast.FunctionDef, ast.ClassDef)):
+            names.add(node.name)
+        elif isinstance(node, ast.Assign):
+            names |= {target.id for target in node.targets}
+    return names
 
 
 def own_names():
@@ -61,10 +72,31 @@ class Language(unittest.TestCase):
                     else:
                         self.assertTrue(node.module.startswith("surefinds."), path.name)
                         other = FOLDER / (node.module.split(".")[1] + ".py")
-                        defined = {each.name for each in ast.parse(other.read_text()).body
-                                   if isinstance(each, (ast.FunctionDef, ast.ClassDef))}
-                        constants = {name for name in names if name.isupper()}
-                        self.assertLessEqual(names - constants, defined, path.name)
+                        self.assertLessEqual(names, defined_names(ast.parse(other.read_text())), path.name)
+
+    def test_no_two_files_import_from_each_other(self):
+        ahead = {}
+        for path, tree in self.trees():
+            ahead[path.stem] = {node.module.split(".")[1] for node in ast.walk(tree)
+                                if isinstance(node, ast.ImportFrom) and node.module not in LIBRARY}
+        while ahead:
+            free = [name for name, others in ahead.items() if not others & set(ahead)]
+            self.assertTrue(free, ahead)
+            for name in free:
+                del ahead[name]
+
+    def test_no_variable_is_called_like_an_import_a_class_or_a_builtin(self):
+        for path, tree in self.trees():
+            taken = {name for name in dir(builtins) if name[0] != "_"}
+            taken |= {node.name for node in tree.body if isinstance(node, ast.ClassDef)}
+            for node in tree.body:
+                if isinstance(node, ast.ImportFrom):
+                    taken |= {alias.name for alias in node.names}
+            for node in ast.walk(tree):
+                if isinstance(node, ast.arg):
+                    self.assertNotIn(node.arg, taken, path.name)
+                elif isinstance(node, ast.Name) and isinstance(node.ctx, ast.Store):
+                    self.assertNotIn(node.id, taken, path.name)
 
     def test_nothing_barred_and_no_floats(self):
         for path, tree in self.trees():
