@@ -3,7 +3,7 @@
 from surefinds.books import check_book, corners_against, false_of, is_within
 from surefinds.checks import MOST_CORNERS, check_count, check_numbers, check_set
 from surefinds.errors import InvalidBars, TooMany
-from surefinds.exact import NIL, greater
+from surefinds.exact import NIL, ONE, greater
 from surefinds.frames import check_frame, is_part
 from surefinds.kinds import is_bar
 from surefinds.packing import chance_of, is_under, needed, ranked, unlike_limits
@@ -108,13 +108,23 @@ def is_coherent(frame, bars):
     """Whether for all numbers, wherever a lot is barred, all lots that it lies in are barred, too."""
     check_frame(frame)
     check_bars(frame[0], bars)
+    return first_split(frame, bars) is None
+
+
+def first_split(frame, bars):
+    """A lot, one that it lies in, and numbers that bar the first one and not the second one; None if there are none."""
     count, lots = frame
     corners = [corner for _, corner in bars]
     ranks = ranked(corners, unlike_limits(count, corners))
-    rows = {lot: [rank for (own, _), rank in zip(bars, ranks) if own == lot] for lot in lots}
-    return all([covers(rows[other], rows[lot]) for lot in lots for other in lots if is_part(lot, other)])
+    places = {lot: [at for at, (own, _) in enumerate(bars) if own == lot] for lot in lots}
+    pairs = [(part, whole) for part in lots for whole in lots if is_part(part, whole)]
+    for lot, other in pairs:
+        outer = [ranks[at] for at in places[other]]
+        for at in places[lot]:
+            if not any([is_under(ranks[at], row) for row in outer]):
+                return (lot, other, highest_within(corners[at]))
+    return None
 
 
-def covers(outer, inner):
-    """Whether each of the inner rows is under some outer one."""
-    return all([any([is_under(row, other) for other in outer]) for row in inner])
+def highest_within(corner):
+    return tuple([ONE if limit is None else limit for limit in corner])

@@ -20,6 +20,11 @@ def is_count(value):
     return is_whole(value) and 1 <= value <= MOST_COUNT
 
 
+def tells_count(value):
+    """Whether a value is a tuple of as many elements as there can be suppositions."""
+    return type(value) is tuple and is_count(len(value))
+
+
 def is_fraction(value):
     if not is_row(value, 2):
         return False
@@ -29,6 +34,10 @@ def is_fraction(value):
 
 def is_number(value):
     return is_fraction(value) and 0 <= value[0] <= value[1]
+
+
+def are_numbers(count, value):
+    return is_row(value, count) and all([is_number(each) for each in value])
 
 
 def is_limit(value):
@@ -45,6 +54,13 @@ def is_weight(value):
 
 def is_degree(value):
     return is_number(value) and value[0] > 0
+
+
+def is_price(count, value):
+    if not is_row(value, 3):
+        return False
+    index, limit, price = value
+    return is_index(count, index) and is_number(limit) and is_fraction(price) and price[0] > 0
 
 
 def is_worth(count, value):

@@ -1,10 +1,9 @@
 """Bars with names: weighed and even ones, ranked ones, and those of webs."""
 
-from surefinds.checks import check_degree, check_set, check_shared_weights, check_web, check_weights
-from surefinds.errors import InvalidWeights
+from surefinds.checks import (check_degree, check_leading_weights, check_set, check_shared_weights, check_web,
+                              check_weights)
 from surefinds.exact import lowest, over, sum_of, times
 from surefinds.frames import all_sets, check_frame, is_part
-from surefinds.kinds import is_count
 from surefinds.webs import weights_left
 
 
@@ -57,9 +56,7 @@ def web_bars(frame, weights, web, degree):
 
 def web_weights(weights, web, lot):
     """The weights that are left for the lot, 0 elsewhere."""
-    if type(weights) is not tuple or not is_count(len(weights)):
-        raise InvalidWeights(None)
-    check_shared_weights(len(weights), weights)
+    check_leading_weights(weights)
     check_web(len(weights), web)
     check_set(len(weights), lot)
     return weights_left(weights, web, lot)

@@ -180,6 +180,44 @@ def drawn_numbers(draw, count, corners, most):
     return tuple(found)
 
 
+def drawn_limits(draw, count, most):
+    """Limits below 1, none below the one before it; like ones and 0 among them."""
+    found = []
+    for _ in range(count):
+        bottom = draw.randint(1, most)
+        found.append(pair(draw.randrange(bottom), bottom))
+    return tuple(sorted(found, key=whole_of))
+
+
+def numbers_beside(draw, count, ends, most):
+    """Numbers of which some are just at the ends, which are Fractions, and some a little above one."""
+    found = []
+    for _ in range(count):
+        number = whole_of(drawn_number(draw, most))
+        if ends and draw.random() < 0.7:
+            number = draw.choice(ends) + draw.choice((0, 0, 0, Fraction(1, 10 ** 50)))
+        found.append(pair(min(Fraction(1), number)))
+    return tuple(found)
+
+
+def up_to_limits(numbers, limits):
+    """The numbers in order, the least first, with their indexes, and whether each is at most the limit of its place."""
+    ordered = sorted((whole_of(number), at) for at, number in enumerate(numbers))
+    return [at for _, at in ordered], [number <= whole_of(limit) for (number, _), limit in zip(ordered, limits)]
+
+
+def plain_step_down(numbers, limits):
+    order, within = up_to_limits(numbers, limits)
+    found = max(r for r in range(len(limits) + 1) if all(within[:r]))
+    return tuple(sorted(order[:found]))
+
+
+def plain_step_up(numbers, limits):
+    order, within = up_to_limits(numbers, limits)
+    found = max(r for r in range(len(limits) + 1) if r == 0 or within[r - 1])
+    return tuple(sorted(order[:found]))
+
+
 def is_inside(numbers, corner):
     return all(limit is None or whole_of(number) <= whole_of(limit) for number, limit in zip(numbers, corner))
 

@@ -11,9 +11,10 @@ FILES = sorted(FOLDER.rglob("*.py"))
 LIBRARY = {"math": {"gcd", "lcm"}}
 BUILTINS = {"len", "range", "enumerate", "zip", "min", "max", "sum", "abs", "sorted", "int", "list", "tuple", "all",
             "any", "type", "super", "ValueError"}
-METHODS = {"append", "get", "items", "bit_length"}
-BARRED = (ast.Div, ast.Global, ast.Nonlocal, ast.Yield, ast.YieldFrom, ast.Await, ast.With, ast.Try, ast.JoinedStr,
+METHODS = {"append", "get", "items", "values", "bit_length"}
+BARRED = (ast.Div, ast.Global, ast.Nonlocal, ast.Yield, ast.YieldFrom, ast.Await, ast.With, ast.JoinedStr,
           ast.GeneratorExp, ast.NamedExpr, ast.Starred, ast.AnnAssign, ast.Import, ast.Delete, ast.Match, ast.Assert)
+BARRED_NAMES = re.compile(r"register|mro|elements|open|input|law|_|.*__.*|(_wall|_pe_|_dcw_|_enum_|_cm_|_lay_|_law_).*")
 
 
 def defined_names(tree):
@@ -35,6 +36,12 @@ def own_names():
             elif isinstance(node, ast.arg):
                 names.add(node.arg)
     return names
+
+
+def names_for_functions_of_tables(tree):
+    return {node.targets[0].id for node in ast.walk(tree)
+            if isinstance(node, ast.Assign) and isinstance(node.value, ast.Subscript)
+            and isinstance(node.value.value, ast.Name) and node.value.value.id.isupper()}
 
 
 class Language(unittest.TestCase):
@@ -107,16 +114,54 @@ class Language(unittest.TestCase):
                     self.assertNotIn("%", str(node.value), path.name)
 
     def test_only_what_is_let_is_called(self):
-        own = own_names()
         for path, tree in self.trees():
+            own = own_names() | names_for_functions_of_tables(tree)
             for node in ast.walk(tree):
                 if isinstance(node, ast.Call) and isinstance(node.func, ast.Name):
                     self.assertIn(node.func.id, own | BUILTINS | LIBRARY["math"], path.name)
                 elif isinstance(node, ast.Call) and isinstance(node.func, ast.Attribute):
                     self.assertIn(node.func.attr, own | METHODS | {"__init__"}, path.name)
 
+    def test_only_the_own_base_of_errors_is_caught(self):
+        for path, tree in self.trees():
+            for node in ast.walk(tree):
+                if isinstance(node, ast.Try):
+                    self.assertEqual([handler.type.id for handler in node.handlers], ["FindError"], path.name)
+                    self.assertEqual([len(node.body), node.orelse, node.finalbody], [1, [], []], path.name)
+                elif isinstance(node, ast.Raise):
+                    self.assertIsInstance(node.exc, ast.Call, path.name)
+
+    def test_names(self):
+        for path, tree in self.trees():
+            for node in ast.walk(tree):
+                if isinstance(node, (ast.FunctionDef, ast.ClassDef)) and node.name != "__init__":
+                    self.assertNotRegex(node.name, rf"^({BARRED_NAMES.pattern})$", path.name)
+                elif isinstance(node, ast.Name) and isinstance(node.ctx, ast.Load):
+                    self.assertNotRegex(node.id, rf"^({BARRED_NAMES.pattern})$", path.name)
+
+    def test_functions_of_a_table_are_named_before_they_are_called(self):
+        for path, tree in self.trees():
+            for node in ast.walk(tree):
+                if isinstance(node, ast.Call):
+                    self.assertIsInstance(node.func, (ast.Name, ast.Attribute), f"{path.name} {node.lineno}")
+
+    def test_tables_hold_plain_values_and_functions_defined_above(self):
+        for path, tree in self.trees():
+            above = set()
+            for node in tree.body:
+                if isinstance(node, ast.FunctionDef):
+                    above.add(node.name)
+                elif isinstance(node, ast.Assign):
+                    for each in ast.walk(node.value):
+                        self.assertIsInstance(each, (ast.Constant, ast.Dict, ast.Tuple, ast.Name, ast.Load, ast.UnaryOp,
+                                                     ast.USub), path.name)
+                        if isinstance(each, ast.Name):
+                            self.assertIn(each.id, above, path.name)
+                else:
+                    self.assertIsInstance(node, (ast.ImportFrom, ast.ClassDef, ast.Expr), path.name)
+
     def test_a_kind_is_asked_only_by_is(self):
         for path in FILES:
             for line in path.read_text().splitlines():
                 for found in re.findall(r"\btype\(\w+\)(.{0,20})", line):
-                    self.assertRegex(found, r"^ is (not )?(int|tuple)\b", f"{path.name}: {line}")
+                    self.assertRegex(found, r"^ is (not )?(int|str|tuple)\b", f"{path.name}: {line}")
